@@ -64,7 +64,7 @@ func power(t *testing.T, s scene, boot int, b []byte, choices [][]byte) {
 			segs = append(segs, seg)
 		}
 		for i, choice := range choices {
-			if k < len(goal) && i%13 != k { // a write that was not done is as one that was lost, and those are all tried
+			if k < len(goal) && i%13 != k { // some of them: a write that was not done is as one that was lost, and those are tried where all were done
 				continue
 			}
 			c := d.Crash(choice)
@@ -106,7 +106,7 @@ func ways() []byte {
 	return l
 }
 
-// crashes are choices for so many sectors: all of them for up to two, else one torn anywhere with the others kept or lost, and some by chance.
+// crashes are choices for so many sectors: all of them for up to two, else each in each way with those ahead and those behind kept or lost, and some by chance.
 func crashes(r *rand.Rand, n int) [][]byte {
 	var l [][]byte
 	w := ways()
@@ -123,10 +123,10 @@ func crashes(r *rand.Rand, n int) [][]byte {
 	}
 	for i := range n {
 		for _, a := range w {
-			for _, rest := range []byte{0, 1} {
-				c := bytes.Repeat([]byte{rest}, n)
-				c[i] = a
-				l = append(l, c)
+			for _, rest := range [][2]byte{{0, 0}, {1, 1}, {1, 0}, {0, 1}} { // ahead of it, behind it
+				c := bytes.Repeat(rest[:1], i)
+				c = append(c, a)
+				l = append(l, append(c, bytes.Repeat(rest[1:], n-1-i)...))
 			}
 		}
 	}
